@@ -1,0 +1,1 @@
+"""Rows dealt among hands, decided for all stores."""
