@@ -89,7 +89,7 @@ class Letters(unittest.TestCase):
 
     def test_wrong_letters(self):
         question = (("a",), ((1, ("a", "b")),), ())
-        for thing in ("", "a", "abc", "aa", "ai", "AB", "a ", None, 2, ("c", "d"), b"ab", True):
+        for thing in ("", "a", "abc", "aab", "abab", "aa", "ai", "AB", "a ", None, 2, ("c", "d"), b"ab", True):
             self.assertEqual(fault(BadLetters, with_names, question, thing), (thing,))
         self.assertEqual(fault(BadLetters, with_names, question, ["c", "d"]), (("c", "d"),))
         self.assertEqual(fault(BadLetters, with_names, ((), ((0, (1,)),), ()), ()), ((),))

@@ -13,8 +13,21 @@ FUNCTIONS = {
               "count_readings(question, store); answers(union, store); counted(question, store); "
               "union_readings(union, store)",
     "along": "renamed_store(store, moves); renamed_union(union, moves); with_names(question, letters)",
+    "storetext": "row_text(row); store_text(store); read_store(widths, text)",
+    "questiontext": "question_text(question); union_text(union); read_union(widths, text)",
+    "cases": "check_told(union, told); layings(names, known, modulus); all_cases(question, sorts, told); "
+             "count_cases(question, sorts, told); shape_of(question, reading, sorts, told)",
+    "leastness": "lesser_reading(union, index, reading); is_least(union, index, reading); "
+                 "least_cases(union, sorts, told); least_rows(union, store, answer); needed_kinds(union, sorts)",
+    "within": "is_within(widths, union, other); outside_fault(widths, union, other, outside); "
+              "are_alike(widths, union, other); least_form(widths, question)",
 }
-GENERATORS = ("asking.readings", "asking.union_readings")
+CLASSES = {
+    "sorts": {"Sorts": "__init__(self, named, modulus); sort_of(self, value); kind_of(self, row); "
+                       "value_of(self, sort, number, avoided=()); __eq__(self, other)"},
+    "within": {"Outside": "__init__(self, index, reading); __eq__(self, other)"},
+}
+GENERATORS = ("asking.readings", "asking.union_readings", "cases.all_cases", "leastness.least_cases")
 
 
 def told_of(function):
@@ -30,6 +43,19 @@ class Interface(unittest.TestCase):
                 function = getattr(found, line.split("(")[0])
                 self.assertEqual(told_of(function), line)
                 self.assertEqual(function.__module__, found.__name__, line)
+
+    def test_classes(self):
+        for module, classes in CLASSES.items():
+            found = importlib.import_module(f"meetwhere.{module}")
+            for name, told in classes.items():
+                made = vars(found)[name]
+                self.assertEqual(made.__module__, found.__name__, name)
+                for line in told.split("; "):
+                    method = vars(made)[line.split("(")[0]]
+                    self.assertEqual(told_of(method), line)
+
+    def test_property(self):
+        self.assertIsInstance(vars(importlib.import_module("meetwhere.sorts").Sorts)["many"], property)
 
     def test_generators(self):
         for told in GENERATORS:

@@ -73,6 +73,8 @@ class Stores(unittest.TestCase):
         for number in range(20):
             store = some_store(number, (1, 2, 3), 9, 60)
             self.assertEqual(store_values(store), tuple(sorted({v for _, values in store for v in values})))
-            self.assertEqual(store_values(tuple((t, v) for t, v in store)), store_values(store))
+        for number in range(20):
+            store = some_store(number, (1, 2, 3), GREATEST, 60)
+            self.assertEqual(store_values(store), tuple(sorted({v for _, values in store for v in values})))
         many = tuple((0, (k,)) for k in range(300))
         self.assertEqual(store_values(many), tuple(range(300)))
