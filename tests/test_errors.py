@@ -50,6 +50,7 @@ class Errors(unittest.TestCase):
             thing.clear()
             for attribute in attributes:
                 self.assertEqual(getattr(error, attribute), (1, (2, (3, (4,)))), name)
+            self.assertEqual([kept.__class__ for kept in error.args], [str], name)
 
     def test_a_list_that_holds_itself_can_be_told(self):
         thing = []

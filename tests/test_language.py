@@ -11,7 +11,7 @@ TREES = {path.stem: ast.parse(path.read_text()) for path in FILES}
 
 LET_BUILTINS = set("""len range enumerate zip min max sum abs sorted reversed int str bool list tuple dict set
     isinstance ord repr any all divmod map iter next Exception ValueError TypeError KeyError IndexError LookupError
-    ZeroDivisionError RuntimeError NotImplementedError NotImplemented super property""".split())
+    ZeroDivisionError RuntimeError NotImplementedError NotImplemented property""".split())
 LET_METHODS = set("""append clear copy count endswith extend find get index insert isalnum isalpha isdigit islower
     isspace isupper items join keys ljust lower lstrip partition pop remove replace reverse rfind rjust rpartition
     rsplit rstrip setdefault split splitlines startswith strip update upper values zfill bit_length add discard
