@@ -19,7 +19,7 @@ def answer_of(question, reading):
     return filled(question[0], names_of(question), reading)
 
 
-def _fitted(terms, values, wanted):
+def fitted(terms, values, wanted):
     """Return what the names get where the terms become the values, beside what is wanted; None if they cannot."""
     given = {name: wanted[name] for name in wanted}
     for term, value in zip(terms, values):
@@ -32,7 +32,7 @@ def _pool_of(atom, store, wanted):
     """Return the pool of an atom: its names, and what the rows of the store give them."""
     table, terms = atom
     names = unlike_names(terms)
-    found = [_fitted(terms, values, wanted) for other, values in store if other == table]
+    found = [fitted(terms, values, wanted) for other, values in store if other == table]
     return (names, tuple([tuple([given[name] for name in names]) for given in found if given is not None]))
 
 
@@ -131,7 +131,7 @@ def count_readings(question, store):
 def _started_for(question, store, answer):
     """Return the state before all names, for readings with an answer; None if there are none."""
     head = question[0]
-    wanted = _fitted(head, answer, {}) if len(head) == len(answer) else None
+    wanted = fitted(head, answer, {}) if len(head) == len(answer) else None
     return None if wanted is None else _started(question, store, wanted)
 
 
@@ -142,6 +142,29 @@ def readings_for(question, store, answer):
     if state is not None:
         for reading, _ in _endings(state, names, ()):
             yield reading
+
+
+def _first_step(state, names, dead):
+    """Return the first value of the first name with which the names can get values, and the state then."""
+    for value in _choices(state, names[0]):
+        later = _after(state, names[0], value)
+        if later is not None and _can_end(later, names[1:], dead):
+            return (value, later)
+    return (None, None)
+
+
+def first_reading_for(question, store, answer):
+    """Return the first reading of a question on a store that has an answer, or None."""
+    state = _started_for(question, store, answer)
+    names = names_of(question)
+    dead = {}
+    if state is None or not _can_end(state, names, dead):
+        return None
+    found = ()
+    for at in range(len(names)):
+        value, state = _first_step(state, names[at:], dead)
+        found = found + (value,)
+    return found
 
 
 def is_answered(union, store, answer):

@@ -208,7 +208,7 @@ class BadPlan(DealError):
 class NoRound(DealError):
     def __init__(self, index):
         DealError.__init__(self, "there is no round of this number")
-        self.index = index
+        self.index = _kept(index)
 
 
 class NoPlainAnswer(DealError):

@@ -3,7 +3,7 @@ from meetwhere.asking import answer_of, is_answered, readings_for, rows_of
 from meetwhere.cases import all_cases, check_layings, check_told
 from meetwhere.errors import NoAnswer
 from meetwhere.questions import union_values
-from meetwhere.stores import is_value
+from meetwhere.stores import are_values
 
 
 def lesser_reading(union, index, reading):
@@ -35,9 +35,7 @@ def least_cases(union, sorts, told):
 
 def is_answer_on(union, store, answer):
     """Return whether a thing of any kind is one of the answers of a union on a store."""
-    if not isinstance(answer, tuple) or not all([is_value(value) for value in answer]):
-        return False
-    return is_answered(union, store, answer)
+    return are_values(answer) and is_answered(union, store, answer)
 
 
 def least_rows(union, store, answer):
@@ -52,11 +50,16 @@ def least_rows(union, store, answer):
     return left
 
 
+def kinds_of(question, reading, sorts):
+    """Return the kinds of the rows of a reading, ascending."""
+    return tuple(sorted({sorts.kind_of(row) for row in rows_of(question, reading)}))
+
+
 def needed_kinds(union, sorts):
     """Return the kinds that a union needs under sorts, ascending."""
     told = union_values(union)
     kinds = {}
     for index, case in least_cases(union, sorts, told):
-        for row in rows_of(union[index], case):
-            kinds[sorts.kind_of(row)] = True
+        for kind in kinds_of(union[index], case, sorts):
+            kinds[kind] = True
     return tuple(sorted(list(kinds)))

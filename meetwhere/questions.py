@@ -1,7 +1,7 @@
 """Names, terms, questions, unions, and what becomes of them where the names get values."""
 from meetwhere.errors import BadQuestion, BadReading, BadUnion
-from meetwhere.stores import fault_of_place, is_couple, is_value
-from meetwhere.widths import check_widths, is_sequence_of
+from meetwhere.stores import are_values, fault_of_place, is_couple, is_value
+from meetwhere.widths import check_widths, is_sequence, is_sequence_of
 
 NAMES = ("a", "b", "c", "d", "e", "f", "g", "h")
 MOST_HEAD = 3
@@ -127,14 +127,23 @@ def keeps_pairs(question, reading):
     return all([left != right for left, right in pairs])
 
 
+def is_reading(question, thing):
+    """Return whether a thing of any kind is a tuple that is a reading of the question."""
+    return are_values(thing) and len(thing) == len(names_of(question)) and keeps_pairs(question, thing)
+
+
+def as_reading(question, thing):
+    """Return a thing of any kind as a reading of the question, None if it is none."""
+    reading = tuple(thing) if is_sequence(thing) else None
+    return reading if is_reading(question, reading) else None
+
+
 def check_reading(question, reading):
     """Return a reading of a question as a tuple."""
-    many = len(names_of(question))
-    if not is_sequence_of(reading, many, many) or not all([is_value(value) for value in reading]):
+    known = as_reading(question, reading)
+    if known is None:
         raise BadReading(reading)
-    if not keeps_pairs(question, reading):
-        raise BadReading(reading)
-    return tuple(reading)
+    return known
 
 
 def filled(terms, names, reading):

@@ -11,6 +11,11 @@ def is_value(thing):
     return is_whole(thing, 0, GREATEST_VALUE)
 
 
+def are_values(thing):
+    """Return whether a thing of any kind is a tuple of values."""
+    return isinstance(thing, tuple) and all([is_value(value) for value in thing])
+
+
 def is_couple(thing):
     """Return whether a thing of any kind is a sequence of two things."""
     return is_sequence_of(thing, 2, 2)

@@ -22,6 +22,15 @@ def is_sequence_of(thing, low, high):
     return is_sequence(thing) and low <= len(thing) <= high
 
 
+def is_same(thing, wanted):
+    """Return whether a thing of any kind is what is wanted, whole numbers in tuples, with no True for 1."""
+    if not isinstance(wanted, tuple):
+        return is_whole(thing) and thing == wanted
+    if not isinstance(thing, tuple) or len(thing) != len(wanted):
+        return False
+    return all([is_same(part, other) for part, other in zip(thing, wanted)])
+
+
 def check_widths(widths):
     """Return the widths as a tuple."""
     if not is_sequence_of(widths, 1, MOST_TABLES):

@@ -1,9 +1,8 @@
 """Unions whose answers are always answers of other unions, and the least forms of questions."""
 from meetwhere.asking import answer_of, is_answered, rows_of
 from meetwhere.cases import all_cases, check_layings
-from meetwhere.questions import check_question, check_union, keeps_pairs, names_of, unlike_names, union_values
+from meetwhere.questions import check_question, check_union, is_reading, names_of, unlike_names, union_values
 from meetwhere.sorts import Sorts
-from meetwhere.stores import is_value
 from meetwhere.widths import check_widths, is_whole
 
 
@@ -47,20 +46,13 @@ def is_within(widths, union, other):
     return _first_outside(inner, outer, told)
 
 
-def _is_reading(question, thing):
-    """Return whether a thing of any kind is a tuple that is a reading of the question."""
-    if not isinstance(thing, tuple) or len(thing) != len(names_of(question)):
-        return False
-    return all([is_value(value) for value in thing]) and keeps_pairs(question, thing)
-
-
 def outside_fault(widths, union, other, outside):
     """Return None if a reading shows that a union does not lie within another one, else what is wrong with it."""
     inner, outer = _checked(widths, union, other)
     if not is_whole(outside.index, 0, len(inner) - 1):
         return "reading"
     question = inner[outside.index]
-    if not _is_reading(question, outside.reading):
+    if not is_reading(question, outside.reading):
         return "reading"
     return "within" if _is_shared(question, outside.reading, outer) else None
 

@@ -3,6 +3,9 @@ import copy
 import itertools
 import random
 
+from meetwhere.dealings import Dealing
+from meetwhere.sorts import Sorts
+
 NAMES = "abcdefgh"
 GREATEST = 10 ** 9
 
@@ -54,6 +57,11 @@ def unchanged(test, function, *args):
     test.assertEqual(result, kept)
     test.assertTrue(is_deep_tuple(result))
     return result
+
+
+def in_tuples(thing):
+    """Return a thing with tuples in the place of lists."""
+    return tuple(in_tuples(item) for item in thing) if isinstance(thing, (list, tuple)) else thing
 
 
 def filled(terms, given):
@@ -140,3 +148,54 @@ def some_union(number, widths, most_value, most_atoms=3, most_names=3):
     many = made.choice((0, 1, 1, 2, 2, 3))
     return tuple(some_question((number + 1) * 1000 + k, widths, most_value, most_atoms, most_names, head)
                  for k in range(many))
+
+
+def rows_with(widths, things):
+    """Return all rows with these things in their columns, ascending if the things are."""
+    return [(table, row) for table, width in enumerate(widths) for row in itertools.product(things, repeat=width)]
+
+
+def all_kinds(widths, sorts):
+    """Return all kinds, ascending."""
+    return tuple(rows_with(widths, range(sorts.many)))
+
+
+def some_sorts(number, most_value, most_named=2, most_modulus=3):
+    """Return sorts made up by number."""
+    made = random.Random(number)
+    named = made.sample(range(most_value + 1), made.randint(0, min(most_named, most_value + 1)))
+    return Sorts(sorted(named), made.randint(1, most_modulus))
+
+
+def some_dealing(number, widths, sorts, hands, likely=0.5):
+    """Return a dealing made up by number; each hand is in each lot with the same likelihood."""
+    made = random.Random(number)
+    return Dealing(widths, sorts, hands, [(kind, [hand for hand in range(hands) if made.random() < likely])
+                                          for kind in all_kinds(widths, sorts)])
+
+
+def kind_of(sorts, row):
+    """Return the kind of a row."""
+    return (row[0], tuple(sorts.sort_of(value) for value in row[1]))
+
+
+def at_hand(dealing, rows, hand):
+    """Return those of the rows that a hand holds."""
+    return tuple(row for row in rows if hand in dict(dealing.rule).get(kind_of(dealing.sorts, row), ()))
+
+
+def lot_of_rows(dealing, rows):
+    """Return the hands that hold all of the rows."""
+    return tuple(hand for hand in range(dealing.hands) if at_hand(dealing, rows, hand) == tuple(rows))
+
+
+def together(union, dealing, store):
+    """Return what the hands answer together."""
+    return tuple(sorted({answer for hand in range(dealing.hands)
+                         for answer in answers(union, at_hand(dealing, store, hand))}))
+
+
+def all_stores(widths, values, most_rows):
+    """Yield all stores with these values and at most so many rows."""
+    for many in range(most_rows + 1):
+        yield from itertools.combinations(rows_with(widths, values), many)

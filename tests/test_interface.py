@@ -21,11 +21,32 @@ FUNCTIONS = {
                  "least_cases(union, sorts, told); least_rows(union, store, answer); needed_kinds(union, sorts)",
     "within": "is_within(widths, union, other); outside_fault(widths, union, other, outside); "
               "are_alike(widths, union, other); least_form(widths, question)",
+    "dealings": "all_kinds(widths, sorts); count_kinds(widths, sorts); check_kind(dealing, kind); "
+                "check_lost(dealing, lost); dealing_by(widths, sorts, hands, choose); "
+                "everywhere(widths, sorts, hands); renumbered(dealing, order)",
+    "refining": "finer(dealing, factor); with_named(dealing, value); coarsest(dealing); rows_differ(one, other)",
+    "dealt": "dealt_stores(dealing, store); undealt(dealing, store); answers_by_hand(union, dealing, store); "
+             "answers_together(union, dealing, store); answers_after(union, dealing, store, lost); "
+             "counted_together(question, dealing, store)",
+    "dealingtext": "dealing_text(dealing); read_dealing(widths, text)",
+    "rightness": "meeting_hands(dealing, rows); right_for_all(union, dealing); is_right(union, dealing); "
+                 "meets_fault(union, dealing, meets); parted_fault(union, dealing, parted); "
+                 "all_right(unions, dealing); rows_apart(union, dealing)",
+    "counts": "counts_right(question, dealing); miscounted_fault(question, dealing, miscounted); "
+              "count_span(question, dealing)",
 }
 CLASSES = {
     "sorts": {"Sorts": "__init__(self, named, modulus); sort_of(self, value); kind_of(self, row); "
                        "value_of(self, sort, number, avoided=()); __eq__(self, other)"},
     "within": {"Outside": "__init__(self, index, reading); __eq__(self, other)"},
+    "dealings": {"Dealing": "__init__(self, widths, sorts, hands, rule); __call__(self, row); __iter__(self); "
+                            "__contains__(self, thing); __or__(self, other); __and__(self, other); "
+                            "__eq__(self, other); lot_of(self, kind); held(self, hand); with_lot(self, kind, lot); "
+                            "without(self, lost); includes(self, other)"},
+    "refining": {"UnlikeRow": "__init__(self, row); __eq__(self, other)"},
+    "rightness": {"Meets": "__init__(self, rows); __eq__(self, other)",
+                  "Parted": "__init__(self, index, reading, store, answer); __eq__(self, other)"},
+    "counts": {"Miscounted": "__init__(self, reading, store, answer, hands); __eq__(self, other)"},
 }
 GENERATORS = ("asking.readings", "asking.union_readings", "cases.all_cases", "leastness.least_cases")
 

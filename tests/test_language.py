@@ -17,6 +17,7 @@ LET_METHODS = set("""append clear copy count endswith extend find get index inse
     rsplit rstrip setdefault split splitlines startswith strip update upper values zfill bit_length add discard
     __init__""".split())
 LET_DUNDERS = set("__init__ __eq__ __repr__ __str__ __len__ __call__ __iter__ __contains__ __or__ __and__".split())
+LET_LIBRARY = {"math": {"gcd", "lcm", "isqrt", "comb", "perm", "factorial"}}
 BARRED_NAMES = set("""register mro elements open input law version_info with_traceback add_note attrgetter breakpoint
     compile copyright credits delattr dir eval exec exit gc globals help id importlib license locals methodcaller os
     quit setattr vars _cold _tuplegetter _outside _record _written_out _member_names""".split())
@@ -82,6 +83,10 @@ class Language(unittest.TestCase):
         for name, node in nodes((ast.Import, ast.ImportFrom)):
             self.assertIsInstance(node, ast.ImportFrom)
             self.assertEqual(node.level, 0)
+            if node.module in LET_LIBRARY:
+                self.assertLessEqual({alias.name for alias in node.names}, LET_LIBRARY[node.module], name)
+                self.assertTrue(all(alias.asname is None for alias in node.names), name)
+                continue
             folder, file = node.module.split(".")
             self.assertEqual(folder, "meetwhere")
             needs[name].add(file)
