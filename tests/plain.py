@@ -199,3 +199,19 @@ def all_stores(widths, values, most_rows):
     """Yield all stores with these values and at most so many rows."""
     for many in range(most_rows + 1):
         yield from itertools.combinations(rows_with(widths, values), many)
+
+
+def some_rounds(number, widths, many, hands=(1, 2, 3), most_value=2):
+    """Return rounds of a plan made up by number: couples of a dealing and a union with one question at least."""
+    made = random.Random(number)
+    sorts = some_sorts(number, most_value, 1, 2)
+    tables, rounds = tuple(widths), []
+    for index in range(many):
+        last = index == many - 1
+        head = made.randint(0 if last else 1, 2)
+        union = tuple(some_question(made.random(), tables, most_value, 2, 3, head)
+                      for _ in range(made.choice((1, 1, 2))))
+        dealing = some_dealing(made.random(), tables, sorts, made.choice(hands), made.choice((0.7, 0.9, 1)))
+        rounds.append((dealing, union))
+        tables += (head,)
+    return tuple(rounds)

@@ -34,6 +34,18 @@ FUNCTIONS = {
                  "all_right(unions, dealing); rows_apart(union, dealing)",
     "counts": "counts_right(question, dealing); miscounted_fault(question, dealing, miscounted); "
               "count_span(question, dealing)",
+    "losses": "most_lost(union, dealing); losing_lots(union, dealing)",
+    "demands": "check_demands(dealing, demands); demands_of(union, dealing); unmet_demand(dealing, demands); "
+               "clusters(dealing, demands); carries(dealing, demands, others)",
+    "needless": "copies_of(dealing); struck(dealing, kind, hand); copied(dealing, kind, hand); widest_hand(dealing); "
+                "needless_copies(dealing, demands); unneeded_copies(dealing, demands); "
+                "fewest_struck(dealing, demands)",
+    "leastdealings": "least_under(dealing, demands); least_dealings(dealing, demands); "
+                     "copy_standings(dealing, demands); fewest_within(dealing, demands, *, room=None); "
+                     "least_room(dealing, demands); room_table(dealing, demands)",
+    "plans": "with_round(plan, index, dealing); run_plan(plan, store); plain_run(plan, store); "
+             "sent_copies(plan, store)",
+    "planchains": "chain_to(plan, store, answer); chain_fault(plan, store, answer, chain); chain_rows(plan, chain)",
 }
 CLASSES = {
     "sorts": {"Sorts": "__init__(self, named, modulus); sort_of(self, value); kind_of(self, row); "
@@ -47,8 +59,16 @@ CLASSES = {
     "rightness": {"Meets": "__init__(self, rows); __eq__(self, other)",
                   "Parted": "__init__(self, index, reading, store, answer); __eq__(self, other)"},
     "counts": {"Miscounted": "__init__(self, reading, store, answer, hands); __eq__(self, other)"},
+    "demands": {"Carry": "__init__(self, dealing, demand); __eq__(self, other)"},
+    "needless": {"Breaking": "__init__(self, copies, demand); __eq__(self, other)"},
+    "leastdealings": {"Standings": "__init__(self, fixed, free, idle); __eq__(self, other)",
+                      "Fewest": "__init__(self, number, dealing); __eq__(self, other)",
+                      "NoRoom": "__init__(self, needed); __eq__(self, other)"},
+    "plans": {"Plan": "__init__(self, widths, rounds); __len__(self); __iter__(self); __eq__(self, other)",
+              "PlanRun": "__init__(self, made, answered); __eq__(self, other)"},
 }
-GENERATORS = ("asking.readings", "asking.union_readings", "cases.all_cases", "leastness.least_cases")
+GENERATORS = ("asking.readings", "asking.union_readings", "cases.all_cases", "leastness.least_cases",
+              "leastdealings.least_dealings")
 
 
 def told_of(function):
@@ -75,8 +95,9 @@ class Interface(unittest.TestCase):
                     method = vars(made)[line.split("(")[0]]
                     self.assertEqual(told_of(method), line)
 
-    def test_property(self):
+    def test_properties(self):
         self.assertIsInstance(vars(importlib.import_module("meetwhere.sorts").Sorts)["many"], property)
+        self.assertIsInstance(vars(importlib.import_module("meetwhere.plans").Plan)["all_widths"], property)
 
     def test_generators(self):
         for told in GENERATORS:
