@@ -134,8 +134,7 @@ class Dealing:
         return iter(self._lots)
 
     def __contains__(self, thing):
-        kind = as_kind(self.widths, self.sorts, thing)
-        return kind is not None and kind in self._lots
+        return as_kind(self.widths, self.sorts, thing) in self._lots
 
     def __eq__(self, other):
         return (isinstance(other, Dealing) and self.widths == other.widths and self.sorts == other.sorts

@@ -6,7 +6,7 @@ from meetwhere.cases import all_cases
 from meetwhere.counts import Miscounted, count_span, counts_right, miscounted_fault
 from meetwhere.dealings import Dealing, dealing_by, everywhere
 from meetwhere.dealt import counted_together
-from meetwhere.errors import BadQuestion, BadWidths, TooMany
+from meetwhere.errors import BadQuestion, TooMany
 from meetwhere.questions import names_of, question_values
 from meetwhere.rightness import is_right, meeting_hands
 from meetwhere.rowsets import row_sets
@@ -132,7 +132,17 @@ class CountsRight(unittest.TestCase):
         for function in (counts_right, count_span):
             # 799 layings with four fixed values, 1,540 with five.
             self.assertEqual(fault(TooMany, function, four, everywhere((1,), Sorts((1, 2, 3, 4, 5), 1), 1)), (1000,))
-        self.assertEqual(fault(BadWidths, dealing_by, (), None, 1, None), (0,))
+        # 967 layings of two names with 25 fixed values, 1,030 with 26.
+        sorts = Sorts(tuple(range(8)), 6)
+        pairs = tuple((at, at + 1) for at in range(8, 24, 2))
+        for head, right in (((24,), (1, 1)), ((24, 25), None)):
+            two = (head, ((0, ("a",)), (0, ("b",))), pairs)
+            if right is None:
+                self.assertEqual(fault(TooMany, count_span, two, everywhere((1,), sorts, 1)), (1000,))
+                self.assertEqual(fault(TooMany, counts_right, two, everywhere((1,), sorts, 1)), (1000,))
+            else:
+                self.assertEqual(count_span(two, everywhere((1,), sorts, 1)), right)
+                self.assertIsNone(counts_right(two, everywhere((1,), sorts, 1)))
 
 
 class Judged(unittest.TestCase):

@@ -100,6 +100,8 @@ class Made(unittest.TestCase):
         for other in others:
             self.assertFalse(DEALING == other)
             self.assertTrue(DEALING != other)
+        self.assertFalse(Dealing(WIDTHS, SORTS, 3, RULE[:1]) == Dealing((1, 3), SORTS, 3, RULE[:1]))
+        self.assertFalse(Dealing((1,), SORTS, 3, ()) == Dealing((1, 1), SORTS, 3, ()))
 
 
 class Asked(unittest.TestCase):
@@ -291,8 +293,8 @@ class Two(unittest.TestCase):
 
     def test_apart(self):
         one = Dealing((1,), SORTS, 2, ())
-        for other, what in ((Dealing((2,), Sorts((), 3), 3, ()), "widths"), (Dealing((1,), Sorts((), 3), 3, ()), "sorts"),
-                            (Dealing((1,), SORTS, 3, ()), "hands"), (Dealing((1, 1), SORTS, 2, ()), "widths")):
+        for other, what in ((Dealing((2,), Sorts((), 3), 3, ()), "widths"), (Dealing((1, 1), SORTS, 2, ()), "widths"),
+                            (Dealing((1,), Sorts((), 3), 3, ()), "sorts"), (Dealing((1,), SORTS, 3, ()), "hands")):
             self.assertEqual(fault(Apart, one.__or__, other), (what,))
             self.assertEqual(fault(Apart, one.__and__, other), (what,))
             self.assertEqual(fault(Apart, one.includes, other), (what,))

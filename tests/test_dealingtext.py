@@ -62,7 +62,8 @@ class ReadBack(unittest.TestCase):
         self.assertEqual(fault(BadText, read_dealing, WIDTHS, wrong + "x"), (len(wrong),))
         for text, told in ((wrong, ("named",)), (wrong.replace("2, 1", "1, 1"), ("named",)),
                            (wrong.replace("2, 1", "0, 1, 2, 3, 4, 5, 6, 7, 8"), ("named",)),
-                           (wrong.replace("2, 1", "1, 2"), ("modulus",)), ("hands 0; modulus 0; named none", ("modulus",))):
+                           (wrong.replace("2, 1", "1, 2"), ("modulus",)),
+                           ("hands 0; modulus 0; named none", ("modulus",))):
             self.assertEqual(fault(BadSorts, read_dealing, WIDTHS, text), told)
         for front, told in (("hands 9; modulus 6; named none; 5(0) to 9", ("hands", 0)),
                             ("hands 0; modulus 1; named none", ("hands", 0)),
@@ -116,8 +117,8 @@ class Places(unittest.TestCase):
                      "hands 1; modulus 1; named none; 1(0) to ", "hands 1; modulus 1; named none; 1(0) to 0, ",
                      "hands 1; modulus 1", "hands 1; modulus 1; named non"):
             self.assertEqual(fault(BadText, read_dealing, WIDTHS, text), (len(text),))
-        for text, at in (("hands 1; modulus 1; named ; 1(0) to 0", 26), ("hands 1; modulus 1; named none; 1() to 0", 34),
-                         ("hands 1; modulus 1; named none, 1", 30), ("hands 1; modulus 1; named 1, none", 29),
+        for text, at in (("hands 1; modulus 1; named ; 1(0) to 0", 26), ("hands 1; modulus 1; named none, 1", 30),
+                         ("hands 1; modulus 1; named none; 1() to 0", 34), ("hands 1; modulus 1; named 1, none", 29),
                          ("hands 01; modulus 1; named none", 7), ("hands 1; modulus 1; named none; 6(0) to 0", 32),
                          ("hands 1; modulus 1; named none; 10(0) to 0", 33), ("hands 1000000001; modulus 1", 15),
                          ("hands " + "1" * 4000, 15), ("hands 1; modulus 1; named none; 1(0)", 36)):

@@ -127,7 +127,8 @@ class Answers(unittest.TestCase):
         self.assertEqual(fault(BadLost, answers_after, (PATH,), EXAMPLE, STORE, (0, True)), (1,))
         self.assertEqual(fault(BadLost, answers_after, (PATH,), EXAMPLE, STORE, (0, 2)), (1,))
         self.assertEqual(fault(BadQuestion, counted_together, (PATH,), EXAMPLE, None), ("form", 0))
-        self.assertEqual(fault(BadQuestion, counted_together, (("a",), ((1, ("a",)),), ()), EXAMPLE, None), ("table", 0))
+        far = (("a",), ((1, ("a",)),), ())
+        self.assertEqual(fault(BadQuestion, counted_together, far, EXAMPLE, None), ("table", 0))
         self.assertEqual(fault(BadStore, counted_together, PATH, EXAMPLE, ((0, (1, -1)),)), (0, "value"))
 
 

@@ -99,7 +99,8 @@ class Checked(unittest.TestCase):
 class OfUnions(unittest.TestCase):
     def test_against_a_plain_going_through_cases(self):
         for union, dealing in settings(150):
-            demands = [[plain.kind_of(dealing.sorts, row) for row in rows] for _, _, rows in plain_least(union, dealing)]
+            demands = [[plain.kind_of(dealing.sorts, row) for row in rows]
+                       for _, _, rows in plain_least(union, dealing)]
             found = unchanged(self, demands_of, union, dealing)
             self.assertEqual(found, plain_tidy(demands))
             unmet = [demand for demand in found if not is_met(dealing, demand)]

@@ -34,7 +34,8 @@ class Copies(unittest.TestCase):
     def test_copies_of(self):
         for number in range(40):
             dealing = plain.some_dealing(number, WIDTHS, SORTS, 1 + number % 8)
-            right = tuple((kind, hand) for kind in KINDS for hand in range(dealing.hands) if hand in dealing.lot_of(kind))
+            right = tuple((kind, hand) for kind in KINDS for hand in range(dealing.hands)
+                          if hand in dealing.lot_of(kind))
             self.assertEqual(copies_of(dealing), right)
         self.assertEqual(copies_of(Dealing(WIDTHS, SORTS, 2, ())), ())
 

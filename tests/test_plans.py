@@ -56,8 +56,8 @@ class Made(unittest.TestCase):
         self.assertEqual(run_plan(plan, STORE).answered, ((0, 1), (1, 0)))
 
     def test_rounds_with_unlike_numbers_of_hands(self):
-        three = Plan((2,), [(everywhere((2,), SORTS, hands), (PATH,)) if at == 0 else
-                            (everywhere((2,) * (at + 1), SORTS, hands), (LONGER,)) for at, hands in enumerate((1, 8, 3))])
+        three = Plan((2,), [(everywhere((2,) * (at + 1), SORTS, hands), (PATH if at == 0 else LONGER,))
+                            for at, hands in enumerate((1, 8, 3))])
         self.assertEqual((len(three), three.all_widths), (3, (2, 2, 2)))
         self.assertEqual([dealing.hands for dealing, _ in three], [1, 8, 3])
         self.assertEqual(sent_copies(three, STORE), (2, 8 * 4, 3 * 6))
@@ -80,14 +80,15 @@ class Made(unittest.TestCase):
         self.assertEqual(fault(BadWidths, Plan, (2, 0), None), (1,))
         for thing in NO_SEQUENCES + ((), [None] * 4):
             self.assertEqual(fault(BadPlan, Plan, (2,), thing), (0, "many"))
-        for thing in (None, 5, "ab", (), (BY_REMAINDERS,), (BY_REMAINDERS, (PATH,), 0), (None, (PATH,)), (SORTS, (PATH,)),
-                      {0: 1, 1: 2}, ((PATH,), BY_REMAINDERS)):
+        for thing in (None, 5, "ab", (), (BY_REMAINDERS,), (BY_REMAINDERS, (PATH,), 0), (None, (PATH,)),
+                      (SORTS, (PATH,)), {0: 1, 1: 2}, ((PATH,), BY_REMAINDERS)):
             self.assertEqual(fault(BadPlan, Plan, (2,), [thing]), (0, "round"))
             self.assertEqual(fault(BadPlan, Plan, (2,), [right, thing, None]), (1, "round"))
         self.assertEqual(fault(BadPlan, Plan, (2, 1), [(BY_REMAINDERS, None)]), (0, "widths"))
         self.assertEqual(fault(BadPlan, Plan, (2,), [right, (BY_REMAINDERS, None)]), (1, "widths"))
-        self.assertEqual(fault(BadPlan, Plan, (2,), [right, (everywhere((2, 1), Sorts((), 3), 2), None)]), (1, "widths"))
-        self.assertEqual(fault(BadPlan, Plan, (2,), [right, (everywhere((2, 2), Sorts((), 3), 2), None)]), (1, "sorts"))
+        for widths, what in (((2, 1), "widths"), ((2,), "widths"), ((2, 2, 2), "widths"), ((2, 2), "sorts")):
+            other = everywhere(widths, Sorts((), 3), 2)
+            self.assertEqual(fault(BadPlan, Plan, (2,), [right, (other, None)]), (1, what))
         self.assertEqual(fault(BadUnion, Plan, (2,), [right, (ALL_TO_0, None)]), ("many", 0))
         self.assertEqual(fault(BadQuestion, Plan, (2,), [right, (ALL_TO_0, (LONGER, None))]), ("form", 0))
         self.assertEqual(fault(BadQuestion, Plan, (2,), [(BY_REMAINDERS, (LONGER,)), None]), ("table", 0))

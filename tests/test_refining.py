@@ -106,6 +106,24 @@ class Coarsest(unittest.TestCase):
         self.assertEqual(coarsest(dealing.with_lot((0, (0,)), (1,))).sorts, Sorts((4,), 2))
         self.assertEqual(coarsest(dealing.with_lot((0, (3,)), (0, 1))).sorts, Sorts((), 4))
 
+    def test_a_lesser_modulus_must_divide(self):
+        dealing = dealing_by((1,), Sorts((), 3), 2, lambda kind: ((0,), (1,), (0,))[kind[1][0]])
+        self.assertTrue(coarsest(dealing) == dealing)
+        six = dealing_by((1,), Sorts((), 6), 2, lambda kind: (int(kind[1][0] % 4 == 3),))
+        self.assertTrue(coarsest(six) == six)
+
+    def test_what_stands_beside_a_sort_counts(self):
+        for width in (2, 3):
+            dealing = dealing_by((width,), Sorts((4,), 2), 2, lambda kind: (sum(kind[1]) % 2,))
+            self.assertEqual(coarsest(dealing).sorts, Sorts((4,), 2))
+            even = dealing_by((width,), Sorts((4,), 2), 2, lambda kind: (sum((1, 1, 0)[sort] for sort in kind[1]) % 2,))
+            self.assertEqual(coarsest(even).sorts, Sorts((), 2))
+        for first, second in ((0, 1), (1, 0)):
+            # Remainders in one column, named values in the other: both remainders have the same lots, in other places.
+            dealing = dealing_by((2,), Sorts((4, 5), 2), 2, lambda kind: (
+                (sum(kind[1]) % 2,) if kind[1][first] > 1 >= kind[1][second] else ()))
+            self.assertTrue(coarsest(dealing) == dealing)
+
     def test_the_greatest(self):
         dealing = everywhere((3, 3, 3, 3, 3, 3), Sorts(tuple(range(8)), 6), 8)
         self.assertTrue(coarsest(dealing) == everywhere((3, 3, 3, 3, 3, 3), Sorts((), 1), 8))

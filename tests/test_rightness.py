@@ -181,6 +181,10 @@ class Right(unittest.TestCase):
             self.assertEqual(fault(BadQuestion, function, (PATH, EIGHT), BY_REMAINDERS), ("width", 0))
             self.assertEqual(fault(BadUnion, function, (PATH, ((), PATH[1], ())), BY_REMAINDERS), ("heads", 1))
             self.assertEqual(fault(BadQuestion, function, ((("a", True), PATH[1], ()),), BY_REMAINDERS), ("head", 1))
+            one = everywhere((1,), Sorts((), 1), 1)
+            self.assertEqual(fault(BadQuestion, function, (EIGHT, None), one), ("form", 0))
+            self.assertEqual(fault(BadUnion, function, (EIGHT, ((1,), EIGHT[1][:1], ())), one), ("heads", 1))
+            self.assertEqual(fault(TooMany, function, (EIGHT, ((), EIGHT[1][:1], ())), one), (1000,))
 
 
 class MeetsJudged(unittest.TestCase):
@@ -202,7 +206,8 @@ class MeetsJudged(unittest.TestCase):
     def test_case(self):
         rows = self.rows()
         for row in ((1, (0, 0, 0), 0), (-1, (0, 0, 0), 0), (0, (2, 2, 2), 0), (0, (0, 0), 0), (0, (0, 0, 0, 0), 0),
-                    (0, (0, 3, 0), 0), (True, (0, 0, 0), 0), (False, (0, 0, 0), 0), (0, (False, 0, 0), 0), (0, (), 0)):
+                    (0, (0, 3, 0), 0), (0, [0, 0, 0], 0), (True, (0, 0, 0), 0), (False, (0, 0, 0), 0),
+                    (0, (False, 0, 0), 0), (0, (), 0)):
             self.assertEqual(self.judge(row), "case")
             self.assertEqual(self.judge(*rows, row), "case")
             self.assertEqual(self.judge((0, (0, 0, 0), 1), row), "hand")
@@ -236,7 +241,8 @@ class MeetsJudged(unittest.TestCase):
         words = set()
         for number, (union, dealing) in enumerate(settings(120)):
             made = random.Random(number)
-            least = {(index, case): plain.lot_of_rows(dealing, rows) for index, case, rows in plain_least(union, dealing)}
+            least = {(index, case): plain.lot_of_rows(dealing, rows)
+                     for index, case, rows in plain_least(union, dealing)}
             cases = [(index, case) for index, question in enumerate(union)
                      for case in all_cases(question, dealing.sorts, union_values(union))]
             rows = [key + (made.choice(lot),) for key, lot in least.items() if lot and made.random() < 0.98]
