@@ -94,19 +94,24 @@ def _is_least(ground, state):
     return needed == state
 
 
+def _with_choice(states, bits, lot):
+    """Return the states, each once, to which these lead where one more demand must be met."""
+    further = {}
+    for state in states:
+        # Where a demand is met already, what else meets it would be needless, or comes with other demands.
+        if _holding(state, bits, lot):
+            further[state] = True
+        else:
+            for hand in lot:
+                further[_with_demand(state, bits, hand)] = True
+    return list(further)
+
+
 def _least_states(ground):
     """Return the states of all least dealings, each once."""
-    states = {ground.first: True}
+    states = [ground.first]
     for bits, lot in ground.choices:
-        further = {}
-        for state in states:
-            # Where a demand is met already, what else meets it would be needless, or comes with other demands.
-            if _holding(state, bits, lot):
-                further[state] = True
-            else:
-                for hand in lot:
-                    further[_with_demand(state, bits, hand)] = True
-        states = further
+        states = _with_choice(states, bits, lot)
     return [state for state in states if _is_least(ground, state)]
 
 

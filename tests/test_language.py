@@ -24,6 +24,7 @@ BARRED_NAMES = set("""register mro elements open input law version_info with_tra
 BARRED_WORDS = re.compile(r"\b(typing|typing_extensions|enum|Enum|IntEnum|StrEnum|Flag|IntFlag|Generic|Protocol|ABC|"
                           r"ABCMeta|namedtuple|NamedTuple|TypedDict|TYPE_CHECKING|abstractmethod|_wall|_WallAttr)\b"
                           r"|dataclass|overload|contextmanager")
+CHANGES = set("append clear extend insert pop remove reverse setdefault update sort add discard".split())
 LET_STATEMENTS = (ast.FunctionDef, ast.ClassDef, ast.ImportFrom, ast.Assign, ast.AugAssign, ast.If, ast.While, ast.For,
                   ast.Return, ast.Break, ast.Continue, ast.Pass, ast.Raise, ast.Assert, ast.Delete, ast.Expr, ast.Try,
                   ast.Nonlocal)
@@ -60,6 +61,62 @@ def nodes(kinds):
         for node in ast.walk(tree):
             if isinstance(node, kinds):
                 yield name, node
+
+
+def things_in(node):
+    """Return the texts of the names and attributes that an expression may stand for or goes over; copies are others."""
+    if isinstance(node, (ast.Name, ast.Attribute)):
+        return {ast.unparse(node)}
+    if isinstance(node, ast.IfExp):
+        return things_in(node.body) | things_in(node.orelse)
+    if isinstance(node, ast.BoolOp):
+        return set().union(*[things_in(value) for value in node.values])
+    if isinstance(node, ast.Call):
+        if isinstance(node.func, ast.Attribute) and node.func.attr in ("items", "keys", "values"):
+            return things_in(node.func.value)
+        if isinstance(node.func, ast.Name) and node.func.id in ("enumerate", "zip", "reversed"):
+            return set().union(*[things_in(arg) for arg in node.args])
+    return set()
+
+
+def changed_in(node):
+    """Return the texts of the names and attributes that one step of the code changes."""
+    targets = []
+    if isinstance(node, (ast.Assign, ast.Delete)):
+        targets = [target.value for target in node.targets if isinstance(target, ast.Subscript)]
+    elif isinstance(node, ast.AugAssign):
+        targets = [node.target.value if isinstance(node.target, ast.Subscript) else node.target]
+    elif isinstance(node, ast.Call) and isinstance(node.func, ast.Attribute) and node.func.attr in CHANGES:
+        targets = [node.func.value]
+    return set().union(*[things_in(target) for target in targets])
+
+
+def with_other_names(things, function):
+    """Return names and attributes with all that somewhere in the function are made to stand for the same."""
+    same_things = []
+    for node in ast.walk(function):
+        if isinstance(node, ast.Assign) and things_in(node.value):
+            same_things.append(things_in(node.value).union(*[things_in(target) for target in node.targets]))
+    found, further = set(), set(things)
+    while further != found:
+        found = further
+        further = found.union(*[same for same in same_things if same & found])
+    return found
+
+
+def changed_walks(tree):
+    """Return the rows of all loops in which something is changed that the loop goes over, by whatever name."""
+    found = []
+    for function in ast.walk(tree):
+        if not isinstance(function, ast.FunctionDef):
+            continue
+        for node in ast.walk(function):
+            loops = [node] if isinstance(node, ast.For) else getattr(node, "generators", [])
+            walked = set().union(*[things_in(loop.iter) for loop in loops])
+            inner = set().union(*[changed_in(item) for item in ast.walk(node)]) if walked else set()
+            if with_other_names(walked, function) & inner:
+                found.append(node.lineno)
+    return found
 
 
 class Language(unittest.TestCase):
@@ -159,6 +216,21 @@ class Language(unittest.TestCase):
                     self.assertIsInstance(arg, (ast.Name, ast.Attribute, ast.Constant, ast.Tuple))
         uses = [node for _, node in nodes(ast.Name) if node.id in generators]
         self.assertEqual(len(uses), let)
+
+    def test_what_a_loop_goes_over_is_not_changed_in_it(self):
+        for name, tree in TREES.items():
+            self.assertEqual(changed_walks(tree), [], name)
+
+    def test_changes_in_a_loop_are_seen(self):
+        bodies = ("for x in xs: xs.append(x)", "for x in xs: ys[x] = 1\n ys = xs", "[xs.pop() for x in xs]",
+                  "ys = a if b else xs\n for x in xs: del ys[x]", "for x, y in zip(xs, ys): ys += x",
+                  "for x in self.xs: self.xs.pop()", "zs = ys\n ys = xs\n for x in xs.items(): zs[x] = 1",
+                  "for x in a or xs: xs.clear()")
+        for body in bodies:
+            self.assertEqual(len(changed_walks(ast.parse(f"def f():\n {body}"))), 1, body)
+        let = ("for x in list(xs): xs.append(x)", "for x in xs: ys[x] = 1", "for x in xs: ys = list(xs)\n ys.pop()")
+        for body in let:
+            self.assertEqual(changed_walks(ast.parse(f"def f():\n {body}")), [], body)
 
     def test_strings(self):
         for name, tree in TREES.items():
