@@ -25,7 +25,7 @@ def _check_moves(moves):
 
 
 def _moved(terms, new_of):
-    """Return terms with new values in the place of the old ones; names and other values stay."""
+    """Return terms with new ones in the place of the old ones; others stay."""
     return tuple([new_of.get(term, term) for term in terms])
 
 
@@ -35,8 +35,8 @@ def renamed_store(store, moves):
     return store_of([(table, _moved(values, new_of)) for table, values in store])
 
 
-def _moved_question(question, new_of):
-    """Return a question with all values exchanged."""
+def moved_question(question, new_of):
+    """Return a question with new terms in the place of the old ones, exchanged at once; others stay."""
     head, body, unlike = question
     atoms = tuple([(table, _moved(terms, new_of)) for table, terms in body])
     return (_moved(head, new_of), atoms, tuple([_moved(pair, new_of) for pair in unlike]))
@@ -45,7 +45,7 @@ def _moved_question(question, new_of):
 def renamed_union(union, moves):
     """Return a union with all values exchanged at once."""
     new_of = _check_moves(moves)
-    return tuple([_moved_question(question, new_of) for question in union])
+    return tuple([moved_question(question, new_of) for question in union])
 
 
 def _are_letters(thing, many):
@@ -61,4 +61,4 @@ def with_names(question, letters):
     if not _are_letters(letters, len(names)):
         raise BadLetters(letters)
     new_of = dict(zip(names, letters))
-    return _moved_question(question, new_of)
+    return moved_question(question, new_of)

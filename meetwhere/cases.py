@@ -30,12 +30,16 @@ def _fixed(sorts, told):
     return tuple(sorted(set(told + sorts.named)))
 
 
+def check_many_layings(union, known, modulus):
+    """Refuse a union if one of its questions has too many layings for so many fixed values."""
+    for question in union:
+        if layings(len(names_of(question)), known, modulus) > MOST_LAYINGS:
+            raise TooMany(MOST_LAYINGS)
+
+
 def check_layings(union, sorts, told):
     """Refuse a union if one of its questions has too many layings for checked told values."""
-    known = len(_fixed(sorts, told))
-    for question in union:
-        if layings(len(names_of(question)), known, sorts.modulus) > MOST_LAYINGS:
-            raise TooMany(MOST_LAYINGS)
+    check_many_layings(union, len(_fixed(sorts, told)), sorts.modulus)
 
 
 def _new_value(sorts, sort, fixed, given):

@@ -66,6 +66,20 @@ def check_kind(dealing, kind):
     return known
 
 
+def fault_of_copy(dealing, kind, hand):
+    """Return the word for what of things of any kind is no kind or no hand of a dealing, else None."""
+    if as_kind(dealing.widths, dealing.sorts, kind) is None:
+        return "kind"
+    return None if is_whole(hand, 0, dealing.hands - 1) else "hand"
+
+
+def as_copy(dealing, thing):
+    """Return a thing of any kind as a copy with tuples, held or not; None if it is no kind and hand of a dealing."""
+    if not is_couple(thing) or fault_of_copy(dealing, thing[0], thing[1]) is not None:
+        return None
+    return (check_kind(dealing, thing[0]), thing[1])
+
+
 def check_lost(dealing, lost):
     """Return lost hands of a dealing as a lot."""
     if not is_sequence(lost):
@@ -104,8 +118,8 @@ def _check_rule(widths, sorts, hands, rule):
     return lots
 
 
-def _check_together(one, other):
-    """Refuse two dealings that are not over the same widths, sorts and hands."""
+def check_together(one, other):
+    """Refuse two dealings, or things dealt like these, that are not over the same widths, sorts and hands."""
     if one.widths != other.widths:
         raise Apart("widths")
     if one.sorts != other.sorts:
@@ -141,19 +155,19 @@ class Dealing:
                 and self.hands == other.hands and self.rule == other.rule)
 
     def __or__(self, other):
-        _check_together(self, other)
+        check_together(self, other)
         kinds = sorted({kind for kind, _ in self.rule + other.rule})
         rule = [(kind, tuple(sorted(set(self.lot_at(kind) + other.lot_at(kind))))) for kind in kinds]
         return Dealing(self.widths, self.sorts, self.hands, rule)
 
     def __and__(self, other):
-        _check_together(self, other)
+        check_together(self, other)
         rule = [(kind, tuple([hand for hand in lot if hand in other.lot_at(kind)])) for kind, lot in self.rule]
         return Dealing(self.widths, self.sorts, self.hands, rule)
 
     def includes(self, other):
         """Return whether this dealing gives each row to all hands to which the other one gives it."""
-        _check_together(self, other)
+        check_together(self, other)
         return all([hand in self.lot_at(kind) for kind, lot in other.rule for hand in lot])
 
     def lot_at(self, kind):

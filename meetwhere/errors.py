@@ -213,7 +213,7 @@ class NoRound(DealError):
 
 class NoPlainAnswer(DealError):
     def __init__(self, plan):
-        DealError.__init__(self, "this is no answer of the plan's plain run")
+        DealError.__init__(self, "the plan never answers")
         self.plan = _kept(plan)
 
 

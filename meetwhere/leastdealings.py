@@ -180,7 +180,7 @@ def copy_standings(dealing, demands):
     return Standings(fixed, free, tuple([copy for copy in copies if copy not in used and copy not in ground.fixed]))
 
 
-def _check_room(room):
+def check_room(room):
     """Refuse a thing that is no room."""
     if room is not None and not is_whole(room, 0):
         raise BadRoom(room)
@@ -195,7 +195,7 @@ def _sized_states(ground):
 def fewest_within(dealing, demands, *, room=None):
     """Return the least number of copies, within the room, with a dealing; or the room that is needed."""
     tidy = check_demands(dealing, demands)
-    _check_room(room)
+    check_room(room)
     ground = Ground(dealing, tidy)
     sized = _sized_states(ground)
     fitting = [(number, state) for needed, number, state in sized if room is None or needed <= room]

@@ -17,13 +17,13 @@ def most_lost(union, dealing):
     return min([len(lot) for lot in lots]) - 1 if lots else None
 
 
-def _is_part(lot, other):
-    """Return whether all hands of a lot stand in another one."""
+def is_part(lot, other):
+    """Return whether all hands of a lot, or all indices of a pick, stand in another one."""
     return all([hand in other for hand in lot])
 
 
 def losing_lots(union, dealing):
     """Return the least lots of hands without which the union is not right, by their length, then ascending."""
     lots = _unlike_lots(union, dealing)
-    losing = [lot for lot in lots if not [other for other in lots if other != lot and _is_part(other, lot)]]
+    losing = [lot for lot in lots if not [other for other in lots if other != lot and is_part(other, lot)]]
     return tuple([lot for _, lot in sorted([(len(lot), lot) for lot in losing])])

@@ -1,5 +1,5 @@
 """Copies of kinds at hands, and which of them demands do not need."""
-from meetwhere.dealings import as_kind, shared_lot
+from meetwhere.dealings import as_kind, fault_of_copy, shared_lot
 from meetwhere.demands import check_demands
 from meetwhere.errors import BadCopy, NotHeld, NotRight
 from meetwhere.widths import is_whole
@@ -21,6 +21,13 @@ def copies_of(dealing):
     return tuple([(kind, hand) for kind, lot in dealing.rule for hand in lot])
 
 
+def check_copy(dealing, kind, hand):
+    """Refuse things that are no kind and hand of a dealing."""
+    what = fault_of_copy(dealing, kind, hand)
+    if what is not None:
+        raise BadCopy(what)
+
+
 def struck(dealing, kind, hand):
     """Return the dealing without a copy."""
     known = as_kind(dealing.widths, dealing.sorts, kind)
@@ -31,13 +38,9 @@ def struck(dealing, kind, hand):
 
 def copied(dealing, kind, hand):
     """Return the dealing with a copy put in."""
-    known = as_kind(dealing.widths, dealing.sorts, kind)
-    if known is None:
-        raise BadCopy("kind")
-    if not is_whole(hand, 0, dealing.hands - 1):
-        raise BadCopy("hand")
-    others = [other for other in dealing.lot_at(known) if other != hand]
-    return dealing.with_lot(known, others + [hand])
+    check_copy(dealing, kind, hand)
+    others = [other for other in dealing.lot_of(kind) if other != hand]
+    return dealing.with_lot(kind, others + [hand])
 
 
 def widest_hand(dealing):

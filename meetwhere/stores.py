@@ -65,6 +65,15 @@ def check_store(widths, rows):
     return store_of([_as_row(row) for row in rows])
 
 
+def as_rows(widths, thing, most=None):
+    """Return a thing of any kind as a store, None if it is no sequence of rows, at most so many if there is a bound."""
+    if not is_sequence(thing) or (most is not None and len(thing) > most):
+        return None
+    if not all([_fault_of_row(widths, row) is None for row in thing]):
+        return None
+    return store_of([_as_row(row) for row in thing])
+
+
 def store_of(rows):
     """Return rows with tuples, in any order, as a store."""
     return tuple(sorted(set(rows)))

@@ -46,6 +46,19 @@ FUNCTIONS = {
     "plans": "with_round(plan, index, dealing); run_plan(plan, store); plain_run(plan, store); "
              "sent_copies(plan, store)",
     "planchains": "chain_to(plan, store, answer); chain_fault(plan, store, answer, chain); chain_rows(plan, chain)",
+    "unfolding": "unfolded(plan); one_round(plan)",
+    "planchecks": "plan_values(plan); plan_right(plan); round_right(plan, index); plan_within(plan, other); "
+                  "plans_alike(plan, other)",
+    "handing": "find_covering(widths, unions, rows); hands_on(widths, unions, other); "
+               "covered_fault(widths, unions, other, covered); uncovered_fault(widths, unions, other, uncovered); "
+               "handing_table(widths, unions); greatest_unions(widths, unions); enough_unions(widths, unions)",
+    "spoiling": "make_spoiling(widths, rows)",
+    "grids": "check_shares(question, sorts, shares); hand_of(shares, coordinates); coordinates_of(shares, hand); "
+             "fits_atom(question, sorts, shares, index, kind); grid_dealing(widths, question, sorts, shares); "
+             "hand_of_reading(question, sorts, shares, reading)",
+    "loads": "count_copies(dealing, store); greatest_load(dealing, store); most_copies(dealing); "
+             "loads_of(dealing, store); all_shares(question, sorts, most); "
+             "best_shares(widths, question, sorts, most, store)",
 }
 CLASSES = {
     "sorts": {"Sorts": "__init__(self, named, modulus); sort_of(self, value); kind_of(self, row); "
@@ -66,6 +79,10 @@ CLASSES = {
                       "NoRoom": "__init__(self, needed); __eq__(self, other)"},
     "plans": {"Plan": "__init__(self, widths, rounds); __len__(self); __iter__(self); __eq__(self, other)",
               "PlanRun": "__init__(self, made, answered); __eq__(self, other)"},
+    "planchecks": {"PlanParted": "__init__(self, index, case, store, answer); __eq__(self, other)",
+                   "PlanOutside": "__init__(self, index, case, store, answer); __eq__(self, other)"},
+    "handing": {"Covered": "__init__(self, rows); __eq__(self, other)",
+                "Uncovered": "__init__(self, index, case); __eq__(self, other)"},
 }
 GENERATORS = ("asking.readings", "asking.union_readings", "cases.all_cases", "leastness.least_cases",
               "leastdealings.least_dealings")
