@@ -59,6 +59,14 @@ FUNCTIONS = {
     "loads": "count_copies(dealing, store); greatest_load(dealing, store); most_copies(dealing); "
              "loads_of(dealing, store); all_shares(question, sorts, most); "
              "best_shares(widths, question, sorts, most, store)",
+    "moving": "after_steps(dealing, steps); steps_between(one, other); "
+              "order_fault(union, dealing, steps, room=None); safe_order(union, one, other, room=None, spare=())",
+    "seen": "poorest(seen); richest(seen); surely_right(union, seen); surely_wrong(union, seen); "
+            "right_ways(union, seen); telling_copies(union, seen); fewest_looks(union, seen); next_look(union, seen)",
+    "showing": "least_showing(union, dealing); showing_fault(union, dealing, showing)",
+    "edits": "edited_dealing(dealing, edits); check_edits(dealing, pool)",
+    "mends": "check_goal(widths, goal); goal_holds(dealing, goal); find_mends(dealing, pool, goal); "
+             "find_spoilers(dealing, pool, goal); steady_picks(dealing, pool, goal)",
 }
 CLASSES = {
     "sorts": {"Sorts": "__init__(self, named, modulus); sort_of(self, value); kind_of(self, row); "
@@ -83,9 +91,17 @@ CLASSES = {
                    "PlanOutside": "__init__(self, index, case, store, answer); __eq__(self, other)"},
     "handing": {"Covered": "__init__(self, rows); __eq__(self, other)",
                 "Uncovered": "__init__(self, index, case); __eq__(self, other)"},
+    "moving": {"Broken": "__init__(self, moment, what); __eq__(self, other)",
+               "NoOrder": "__init__(self, reached); __eq__(self, other)"},
+    "seen": {"Seen": "__init__(self, widths, sorts, hands, sights=()); is_held(self, kind, hand); fits(self, dealing); "
+                     "with_sight(self, store, hand, rows); __eq__(self, other)"},
+    "showing": {"Showing": "__init__(self, right, copies); __eq__(self, other)"},
+    "house": {"House": "__init__(self, dealing); put(self, row); take(self, row); put_copy(self, kind, hand); "
+                       "strike_copy(self, kind, hand); at_hand(self, hand); ask(self, union); "
+                       "lost_answers(self, union); holds(self, goal); take_back(self, many=1); trying(self, action)"},
 }
 GENERATORS = ("asking.readings", "asking.union_readings", "cases.all_cases", "leastness.least_cases",
-              "leastdealings.least_dealings")
+              "leastdealings.least_dealings", "mends.find_mends", "mends.find_spoilers", "mends.steady_picks")
 
 
 def told_of(function):

@@ -186,6 +186,19 @@ class Right(unittest.TestCase):
             else:
                 self.assertIsNone(plan_right(plan))
 
+    def test_bounds_come_ahead_of_any_result(self):
+        # The first question is parted, and the second one has too many layings.
+        first = ((), ((1, (1,)),), ())
+        nowhere, full = Dealing((1, 1), SORTS, 1, ()), everywhere((1, 1), SORTS, 1)
+        plan, other = Plan((1, 1), [(nowhere, (first, EIGHT))]), Plan((1, 1), [(full, (first, EIGHT))])
+        self.assertEqual(fault(TooMany, plan_right, plan), (1000,))
+        self.assertEqual(fault(TooMany, plan_within, other, plan), (1000,))
+        self.assertEqual(fault(TooMany, plans_alike, other, plan), (1000,))
+        alone = Plan((1, 1), [(nowhere, (first,))])
+        self.assertEqual(told(plan_right(alone)), (0, (), ((1, (1,)),), ()))
+        self.assertEqual(fault(TooMany, plans_alike, Plan((1, 1), [(full, (first,))]), other), (1000,))
+        self.assertEqual(fault(TooMany, plans_alike, Plan((1, 1), [(full, (first,))]), plan), (1000,))
+
     def test_what_unfolded_raises(self):
         values = tuple(((value,), ((0, (value,)),), ()) for value in range(6))
         plan = one_hand((1,), values, ((("a",), ((1, ("a",)),) * 6, ()),))
