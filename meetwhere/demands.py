@@ -1,4 +1,8 @@
-"""Demands: sets of kinds that must lie whole at one hand."""
+"""Demands: sets of kinds that must lie whole at one hand.
+
+Some copies of a dealing may be *open*: held or not. A *way* to hold open copies is a number: bit k tells whether the
+open copy in place k is held. The copies that are not open are held as the dealing tells.
+"""
 from meetwhere.dealings import as_kind, shared_lot
 from meetwhere.errors import BadDemands, TooMany
 from meetwhere.leastness import kinds_of, least_cases
@@ -182,3 +186,30 @@ def carries(dealing, demands, others):
         if kinds is not None:
             return Carry(_laid_apart(dealing, tidy, kinds), demand)
     return None
+
+
+def _least_way(dealing, demand, hand, places):
+    """Return the way in which a hand holds a demand with no open copy too many, None if there is no such way."""
+    way = 0
+    for kind in demand:
+        if (kind, hand) in places:
+            way = way | (1 << places[(kind, hand)])
+        elif hand not in dealing.lot_at(kind):
+            return None
+    return way
+
+
+def needs_of(dealing, demands, opened):
+    """Return for each demand that is not always met the ways that meet it; the list names the open copies."""
+    places = {copy: place for place, copy in enumerate(opened)}
+    needs = {}
+    for demand in demands:
+        ways = [_least_way(dealing, demand, hand, places) for hand in range(dealing.hands)]
+        if 0 not in ways:
+            needs[tuple([way for way in ways if way is not None])] = True
+    return list(needs)
+
+
+def meets_needs(needs, way):
+    """Return whether a way, with all that is held in it, meets all demands."""
+    return all([any([least & way == least for least in ways]) for ways in needs])

@@ -135,14 +135,16 @@ def _least_of(picks):
 def find_mends(dealing, pool, goal):
     """Yield the least picks after which a goal holds."""
     outcomes = _outcomes(dealing, pool, goal)
-    for pick in _least_of([pick for pick in outcomes if outcomes[pick]]):
+    mending = [pick for pick in outcomes if outcomes[pick]]
+    for pick in _least_of(mending):
         yield pick
 
 
 def find_spoilers(dealing, pool, goal):
     """Yield the least picks after which a goal does not hold."""
     outcomes = _outcomes(dealing, pool, goal)
-    for pick in _least_of([pick for pick in outcomes if not outcomes[pick]]):
+    spoiling = [pick for pick in outcomes if not outcomes[pick]]
+    for pick in _least_of(spoiling):
         yield pick
 
 

@@ -1,12 +1,11 @@
 """Steps that lead from one dealing to another one, and orders of them in which nothing is ever lost."""
 from meetwhere.dealings import as_copy, check_together
-from meetwhere.demands import demands_of
+from meetwhere.demands import demands_of, meets_needs, needs_of
 from meetwhere.edits import COPY_WORDS, as_edit, with_edits
 from meetwhere.errors import BadCopies, BadStep, TooMany
 from meetwhere.leastdealings import check_room
 from meetwhere.needless import copies_of
 from meetwhere.questions import check_union
-from meetwhere.ways import meets_needs, needs_of
 from meetwhere.widths import is_sequence, is_sequence_of
 
 MOST_TOUCHED = 9

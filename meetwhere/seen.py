@@ -1,11 +1,10 @@
 """What sights tell of a dealing that is not known, and looks that find out whether it is right."""
 from meetwhere.dealings import MOST_HANDS, Dealing, all_kinds, as_kind, check_together
-from meetwhere.demands import demands_of
+from meetwhere.demands import demands_of, meets_needs, needs_of
 from meetwhere.errors import BadHands, BadSeen, Clash, TooMany
 from meetwhere.needless import check_copy
 from meetwhere.rightness import is_right
 from meetwhere.stores import MOST_ROWS, as_rows
-from meetwhere.ways import meets_needs, needs_of
 from meetwhere.widths import check_widths, is_sequence_of, is_whole
 
 MOST_SIGHTS = 20
